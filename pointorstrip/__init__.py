@@ -1,0 +1,1 @@
+"""Pointorstrip: whole-number shortcuts, decided for all numbers."""
