@@ -40,8 +40,6 @@ def count_of(rows):
     if not outline.is_bounded():
         return None if decide(rows) else 0
     first, last = outline.whole_ends()
-    if first > last:
-        return 0
     # Both bounds of y are told from the middle outwards; between them is one y more.
     over = chain_total(outline.uppers, first, last)
     under = chain_total(outline.lowers, first, last)

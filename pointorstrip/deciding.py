@@ -4,9 +4,9 @@ from math import gcd
 
 from pointorstrip.bases import narrow_turn, reach
 from pointorstrip.moving import turn_to
-from pointorstrip.outlines import Outline, column, stretches, y_of
+from pointorstrip.outlines import Outline, column, y_of
 from pointorstrip.papers import Empty, Point, Thin, goes_on
-from pointorstrip.ratios import below, ceil_of, difference, floor_of
+from pointorstrip.ratios import ceil_of, floor_of
 
 
 def decide(rows):
@@ -23,39 +23,20 @@ def decide_bounded(rows, outline):
     """As decide, for rows that have points and an end on all sides."""
     points = outline.outer_points()
     turn = narrow_turn(points)
+    least, greatest = reach(points, turn.a, turn.b)
+    first = ceil_of(least)
+    # If the region is 4 wide or more in all directions, its longest column has at least half this
+    # length. Either that is less than 3 behind the least x: then a whole column beside it has a
+    # length of 1. Or lengths grow on the way there, by 1 / 2 a step on the average at least, and
+    # at first most: then the third whole column has. So the first four tell.
+    last = min(floor_of(greatest), first + 3)
     turned = turn.rows_of(rows)
-    first, last = likely_columns(turned, reach(points, turn.a, turn.b))
     for x in range(first, last + 1):
         low, high = column(turned, x)
         y = y_of(low, high)
         if y is not None:
             return point_back(turn, x, y)
     return Thin(turn.a, turn.b)
-
-
-def likely_columns(rows, ends):
-    """The first and the last whole x between the ends; of many those beside the longest column."""
-    first = ceil_of(ends[0])
-    last = floor_of(ends[1])
-    wide = difference(ends[1], ends[0])
-    if below(wide, (4, 1)):
-        return (first, last)
-    # As wide as the rows are in all directions, one of these two has a whole point.
-    longest = longest_column(rows)
-    return (max(first, floor_of(longest)), min(last, ceil_of(longest)))
-
-
-def longest_column(rows):
-    """The fraction x at which y is bounded least."""
-    outline = Outline(rows)
-    found = outline.low
-    for start, upper, lower in stretches(outline.uppers, outline.lowers):
-        if start is not None and below(found, start):
-            found = start
-        # From here on both bounds come closer, or stay.
-        if upper[0] * lower[1] + lower[0] * upper[1] >= 0:
-            return found if below(found, outline.high) else outline.high
-    return outline.high
 
 
 def point_back(turn, x, y):

@@ -29,10 +29,13 @@ def flattened(level):
 
 
 def next_level(level):
-    """The level over the numbers of this one's line; None if the ends of this one tell already."""
+    """The level over the numbers of this one's line; None if it has a single number.
+
+    It matters where going on costs and each unit of the line pays, or the other way round.
+    """
     one, other, line, top = flattened(level)
     numbers = line.at(top)
-    if numbers == 0 or (one >= 0 and other >= 0) or (one <= 0 and other <= 0):
+    if numbers == 0:
         return None
     if one < 0:
         # The first places of the numbers 1, 2 and so on.

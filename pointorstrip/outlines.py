@@ -21,16 +21,30 @@ def crossing(one, other):
     return (other[2] * one[1] - one[2] * other[1], other[0] * one[1] - one[0] * other[1])
 
 
+def comes_first(one, other):
+    """Whether a line falls less than another one, or is parallel to it and tighter."""
+    ahead = one[0] * other[1] - other[0] * one[1]
+    if ahead == 0:
+        ahead = one[2] * other[1] - other[2] * one[1]
+    return ahead < 0
+
+
 def by_slope(lines):
     """The lines, the one that falls least first, of parallel ones the tightest first."""
-    # Fractions with unlike values are more than 2 ** -wide apart,
-    # so their whole parts at this scale are in the same order.
-    wide = 2 * max([line[1].bit_length() for line in lines], default=0)
-    keys = sorted([
-        ((a << wide) // b, (c << wide) // b, at)
-        for at, (a, b, c, number) in enumerate(lines)
-    ])
-    return [lines[key[2]] for key in keys]
+    if len(lines) < 2:
+        return lines
+    # Merged by hand, as a key for sorting would be as long as all numbers multiplied.
+    middle = len(lines) // 2
+    left = by_slope(lines[:middle])
+    right = by_slope(lines[middle:])
+    merged = []
+    at = 0
+    for line in left:
+        while at < len(right) and comes_first(right[at], line):
+            merged.append(right[at])
+            at = at + 1
+        merged.append(line)
+    return merged + right[at:]
 
 
 def tightest(lines):
@@ -47,21 +61,19 @@ def tightest(lines):
     return chain
 
 
-def stretches(uppers, lowers):
-    """From left to right, the triples (start, upper line, lower line) of the tightest lines."""
+def tight_pairs(uppers, lowers):
+    """From left to right, all pairs of an upper and a lower line that are tightest together."""
     if not uppers or not lowers:
         return []
     i = j = 0
-    found = [(None, uppers[0][0], lowers[0][0])]
+    found = [(uppers[0][0], lowers[0][0])]
     while i + 1 < len(uppers) or j + 1 < len(lowers):
         more = i + 1 < len(uppers)
         if more and (j + 1 == len(lowers) or below(uppers[i + 1][1], lowers[j + 1][1])):
             i = i + 1
-            start = uppers[i][1]
         else:
             j = j + 1
-            start = lowers[j][1]
-        found.append((start, uppers[i][0], lowers[j][0]))
+        found.append((uppers[i][0], lowers[j][0]))
     return found
 
 
@@ -100,7 +112,7 @@ class Outline:
         for at, row in enumerate(rows):
             if row[1] == 0:
                 self._bound(rows, row[0], row[2], [(at, 1)])
-        for _, upper, lower in stretches(self.uppers, self.lowers):
+        for upper, lower in tight_pairs(self.uppers, self.lowers):
             # The sum of both lines with these weights bounds x alone.
             a = upper[0] * lower[1] + lower[0] * upper[1]
             c = upper[2] * lower[1] + lower[2] * upper[1]
@@ -165,7 +177,7 @@ def empty_three(rows, numbers):
         parts = [(i, p * t - q * s), (j, s * b - t * a), (k, a * q - b * p)]
         least = min([weight for _, weight in parts])
         most = max([weight for _, weight in parts])
-        if least < 0 < most or least == most == 0:
+        if least < 0 < most:
             continue
         if least < 0:
             parts = [(at, -weight) for at, weight in parts]

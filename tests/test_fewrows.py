@@ -111,13 +111,18 @@ class FewTest(unittest.TestCase):
         self.assertIs(shows(numbers, paper, points + points[:1]), False)
         for at in range(4):
             bent = list(points)
-            bent[at] = points[at - 1]
-            self.assertIs(shows(numbers, paper, tuple(bent)), False)
+            for other in range(4):
+                if other != at:
+                    bent[at] = points[other]
+                    self.assertIs(shows(numbers, paper, tuple(bent)), False)
         # The paper is one of these rows alone, in this order.
         empty = Region([(0, 0, 0), (1, 0, 0), (-2, 0, -1)])
         self.assertIs(Few((1, 2), Empty([2, 1]), ((1, 0), (0, 0))).shows(empty), True)
         self.assertIs(Few((1, 2), Empty([1, 2]), ((1, 0), (0, 0))).shows(empty), False)
         self.assertIs(Few((1, 2), Empty([0, 2, 1]), ((1, 0), (0, 0))).shows(empty), False)
+        # No row has the number -1, whatever stands at the end.
+        self.assertIs(Few((-1, 1), Empty([1, 2]), ((0, 0), (1, 0))).shows(
+            Region([(0, 0, 0), (1, 0, 0), (-2, 0, -1)])), False)
         # Rows that show nothing more than others can be left out.
         more = Region([(1, 0, 0), (-1, 0, -1), (0, 1, 5)])
         told = ((1, 0), (0, 0), (0, 9))

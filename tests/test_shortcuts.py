@@ -197,6 +197,7 @@ class ShortcutTest(unittest.TestCase):
 
         self.assertIs(shows(words, paper), True)
         self.assertIs(shows(words, paper, 9), False)
+        self.assertIs(shows(words, paper, -1), False)
         self.assertIs(shows(words, paper, 8, [(1, 0, 10 ** 6)]), isinstance(paper, Thin))
         for at in range(4):
             self.assertIs(shows(words[:at] + words[at + 1:], paper), False)
