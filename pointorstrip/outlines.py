@@ -33,7 +33,7 @@ def by_slope(lines):
     """The lines, the one that falls least first, of parallel ones the tightest first."""
     if len(lines) < 2:
         return lines
-    # Merged by hand, as a key for sorting would be as long as all numbers multiplied.
+    # Merged by hand: a key that keeps fractions of long numbers apart would be far longer still.
     middle = len(lines) // 2
     left = by_slope(lines[:middle])
     right = by_slope(lines[middle:])
