@@ -178,6 +178,21 @@ class ShortcutTest(unittest.TestCase):
         for refusals in (refused, (None,) + refused[1:], long.refused):
             self.assertIs(Shortcut(10, 146, 72, agreed, refusals).shows(target, top), False)
 
+    def test_shows_asks_for_the_rows_told(self):
+        # Words that refuse multipliers up to 71, and not up to 72.
+        target, top = Line(1, 0, 7), 255
+        found = shortcut(target, top)
+        refusals = [
+            Refusal(((252, 0), (y, 1)), Empty([1, 1, 252 - y])) for y in range(252)
+        ]
+        less = [
+            refusal for refusal in refusals if refusal.shows(target, top, 9, [(1, 0, 71)])
+            and not refusal.shows(target, top, 9, [(1, 0, 72)])
+        ]
+        self.assertTrue(less)
+        told = (found.refused[0], less[0], found.refused[2])
+        self.assertIs(Shortcut(9, 73, 36, found.agreed, told).shows(target, top), False)
+
     def test_shows_without_a_shift(self):
         target = Line(3, 1, 1)
         found = shortcut(target, 5)
