@@ -147,14 +147,20 @@ def ends_ahead(x, low, high):
     return ends if ends[0] <= ends[1] else None
 
 
-def above_rows(one, other, low, high):
-    """The rows of the whole (x, y) of a range with y not above the one line, but above the other."""
+def end_rows(low, high):
+    """The rows of the ends of a range, those that there are."""
     rows = []
     if low is not None:
         rows.append((-1, 0, -low))
     if high is not None:
         rows.append((1, 0, high))
-    return rows + [(-one.a, one.m, one.b), (other.a, -other.m, -other.b - 1)]
+    return rows
+
+
+def above_rows(one, other, low, high):
+    """The rows of the whole (x, y) of a range with y not above the one line, but above the other."""
+    ends = end_rows(low, high)
+    return ends + [(-one.a, one.m, one.b), (other.a, -other.m, -other.b - 1)]
 
 
 def check_range(one, other, low, high):

@@ -21,16 +21,33 @@ def check_from(least, value):
         raise BadNumber(value)
 
 
-def power_of_ten(exponent):
-    """10 to an exponent from 0 on."""
-    power = 1
-    base = 10
+def is_between(least, most, value):
+    """Whether the value is a number from the least to the most."""
+    return is_number(value) and least <= value <= most
+
+
+def check_between(least, most, value):
+    """BadNumber for what is no number from the least to the most."""
+    if not is_between(least, most, value):
+        raise BadNumber(value)
+
+
+def is_pair(value):
+    """Whether the value is a tuple of two numbers."""
+    if not isinstance(value, tuple) or len(value) != 2:
+        return False
+    return is_number(value[0]) and is_number(value[1])
+
+
+def power(base, exponent):
+    """The base to an exponent from 0 on."""
+    found = 1
     while exponent:
         if exponent & 1:
-            power = power * base
+            found = found * base
         base = base * base
         exponent = exponent >> 1
-    return power
+    return found
 
 
 def figures(number):
@@ -41,7 +58,7 @@ def figures(number):
     # Python refuses to write out very long numbers, so their bits are asked:
     # the factor is a little below the logarithm of 2, and the loop makes up for it.
     many = (rest.bit_length() - 1) * 301029995 // 1000000000
-    bound = power_of_ten(many)
+    bound = power(10, many)
     while bound <= rest:
         bound = bound * 10
         many = many + 1

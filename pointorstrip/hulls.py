@@ -7,6 +7,7 @@ from pointorstrip.figures import check_size
 from pointorstrip.leasts import lowest
 from pointorstrip.outlines import column
 from pointorstrip.papers import Endless, refutes
+from pointorstrip.regions import beyond
 
 MOST_ROWS = 20
 MOST_FIGURES = 12
@@ -42,12 +43,6 @@ class Hull:
             if not refutes(paper, region.with_rows([beyond(row)])):
                 return False
         return True
-
-
-def beyond(row):
-    """The row of all whole points at which this row does not hold."""
-    a, b, c = row
-    return (-a, -b, -c - 1)
 
 
 def side(start, end):

@@ -70,6 +70,14 @@ def turn_to(u, v):
     return Turn(u, v, -one * one_v, one * one_u, 0, 0)
 
 
+def inverse(number, modulus):
+    """The number from 0 below the modulus that leaves 1, or 0 for modulus 1, times this number.
+
+    Both numbers have no common divisor above 1.
+    """
+    return turn_to(number, modulus).d % modulus
+
+
 def scaled(region, times):
     """The region with each c so many times as great."""
     check_from(1, times)

@@ -21,6 +21,12 @@ def line_rows(rows):
     return tuple(rows)
 
 
+def beyond(row):
+    """The row of all whole points at which this row does not hold."""
+    a, b, c = row
+    return (-a, -b, -c - 1)
+
+
 class Region:
     """All points (x, y) with a x + b y <= c for all rows (a, b, c)."""
 

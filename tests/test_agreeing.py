@@ -8,7 +8,7 @@ from pointorstrip.agreeing import (
 from pointorstrip.errors import BadNumber, TooLarge
 from pointorstrip.papers import Empty, Point, Thin
 from pointorstrip.rounded import Line
-from trying import check_equality, generator, refutes
+from trying import check_equality, generator, refutes, some_lines
 
 FAR = 700
 
@@ -30,16 +30,6 @@ def first_rows(one, other, low, high):
     if high is not None:
         rows.append((1, 0, high))
     return rows + [(-one.a, one.m, one.b), (other.a, -other.m, -other.b - 1)]
-
-
-def some_lines(chance):
-    """Two lines that are much alike, or have little to do with one another."""
-    one = Line(chance.randint(-9, 9), chance.randint(-20, 20), chance.randint(1, 9))
-    if chance.random() < 0.6:
-        times = chance.randint(1, 3)
-        a = one.a * times + chance.choice([0, 0, 0, 1, -1])
-        return one, Line(a, one.b * times + chance.randint(-1, times), one.m * times)
-    return one, Line(chance.randint(-9, 9), chance.randint(-20, 20), chance.randint(1, 9))
 
 
 def some_ends(chance):

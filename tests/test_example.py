@@ -19,9 +19,13 @@ SECTION_1 = """
 SECTION_13 = """
 >>> from pointorstrip.rounded import Line
 >>> from pointorstrip.shortcuts import shortcut
+>>> from pointorstrip.stairs import stairs
 >>> found = shortcut(Line(1, 0, 7), 255)
 >>> found.shift, found.multiplier, found.offset
 (9, 73, 36)
+>>> told = stairs([0, 31, 61, 92, 122])
+>>> told.line.a, told.line.b, told.line.m
+(61, 1, 2)
 """
 
 
@@ -38,7 +42,7 @@ class ExampleTest(unittest.TestCase):
         self.check(SECTION_1, 8)
 
     def test_section_13(self):
-        self.check(SECTION_13, 4)
+        self.check(SECTION_13, 7)
 
 
 if __name__ == "__main__":

@@ -18,6 +18,41 @@ FUNCTIONS = {
     },
     "extremes": {"greatest": "one other line top"},
     "shortcuts": {"shortcut": "target top"},
+    "stairs": {"stairs": "row"},
+    "spreads": {"shares": "one other", "spread_of": "row"},
+    "dividing": {"cheapest": "bits divisor prices", "divisible": "bits divisor"},
+    "lattices": {
+        "judge_within": "region lattice",
+        "congruent": "rests",
+        "meeting": "one other",
+    },
+    "coins": {
+        "pay": "one other amount",
+        "ways_to_pay": "one other amount",
+        "greatest_unpaid": "one other",
+    },
+    "regiontexts": {"read_region": "text", "write_region": "region"},
+    "formats": {
+        "written": "base m e other figures",
+        "read": "format_of other d f",
+        "comes_back": "format_of other figures m e",
+        "judge_back": "format_of other figures",
+        "fewest_figures": "format_of other",
+    },
+    "often": {
+        "rises": "one other low high",
+        "tallies": "one other low high",
+        "differing": "one other low high",
+        "nth_place": "one other low number",
+    },
+    "nearest": {"nearest": "region x y norm"},
+    "parting": {"part": "points others"},
+    "formulas": {"judge_always": "told", "judge_same": "one other"},
+    "loops": {
+        "meetings": "one other turns",
+        "closest": "one other turns",
+        "width": "writes reads turns",
+    },
 }
 
 CLASSES = {
@@ -57,6 +92,69 @@ CLASSES = {
             "shift multiplier offset agreed refused", {"line": "", "shows": "target top"}
         ),
     },
+    "stairs": {
+        "Stairs": ("line low high", {"shows": "row"}),
+        "Crooked": ("low high", {"shows": "row"}),
+    },
+    "spreads": {
+        "Spread": (
+            "ticks slots ahead", {"line": "", "has": "slot", "many": "first last", "places": ""}
+        ),
+        "Shared": ("agreed", {"shows": "one other"}),
+        "Unshared": ("slot many", {"shows": "one other"}),
+    },
+    "words": {"Program": ("bits steps", {"run": "x", "price": "prices"})},
+    "dividing": {
+        "Wrong": ("x", {}),
+        "Torn": ("one other", {}),
+        "Cheapest": (
+            "key multiplier agreed refused", {"program": "bits", "shows": "bits divisor prices"}
+        ),
+    },
+    "lattices": {
+        "Lattice": (
+            "one other start",
+            {"size": "", "point": "i j", "times": "x y", "pulled": "region"},
+        ),
+    },
+    "coins": {"Unpaid": ("amount against paid", {"shows": "one other"})},
+    "formats": {
+        "Format": ("base figures low high", {"has": "m e"}),
+        "Back": ("papers", {"shows": "format_of other figures"}),
+        "Lost": ("m e", {"shows": "format_of other figures"}),
+        "Fewest": ("figures back lost", {"shows": "format_of other"}),
+    },
+    "nearest": {"Nearest": ("far x y against", {"shows": "region x y norm"})},
+    "parting": {
+        "Parted": ("row", {"shows": "points others"}),
+        "Meeting": ("numbers weights others late", {"shows": "points others"}),
+    },
+    "formulas": {
+        "Always": ("papers", {"shows": "told"}),
+        "Fails": ("x y", {"shows": "told"}),
+    },
+    "loops": {
+        "Access": ("times more", {"cell": "turn"}),
+        "Width": ("number told", {"shows": "writes reads turns"}),
+    },
+}
+
+# The errors that stand in other files than errors.py.
+ERRORS = {
+    "words": {"BadStep": "number"},
+    "regiontexts": {"BadText": "line column"},
+    "formulas": {"BadFormula": "part"},
+}
+
+# The evidence that tells its own truth.
+WITH_TRUTH = {
+    "papers": "Point Endless Empty Thin",
+    "agreeing": "Agree Differ Below Above Within Beyond",
+    "stairs": "Stairs Crooked",
+    "spreads": "Shared Unshared",
+    "formats": "Back Lost",
+    "parting": "Parted Meeting",
+    "formulas": "Always Fails",
 }
 
 
@@ -86,6 +184,27 @@ class InterfaceTest(unittest.TestCase):
                     self.check_arguments(vars(made)[method], ("self " + more).strip())
                 if file != "errors":
                     self.assertIn("__eq__", vars(made))
+
+    def test_truth(self):
+        for file, names in WITH_TRUTH.items():
+            module = importlib.import_module("pointorstrip." + file)
+            for name in names.split():
+                self.assertIn("__bool__", vars(getattr(module, name)))
+
+    def test_errors_elsewhere(self):
+        errors = importlib.import_module("pointorstrip.errors")
+        for file, kinds in ERRORS.items():
+            module = importlib.import_module("pointorstrip." + file)
+            for name, arguments in kinds.items():
+                made = getattr(module, name)
+                self.assertEqual(made.__module__, "pointorstrip." + file)
+                self.assertEqual(made.__bases__, (errors.PlaneError,))
+                self.check_arguments(made, arguments)
+                for value in (None, 3, "word", (1, 2), 10 ** 6000):
+                    values = [value] * len(arguments.split())
+                    raised = made(*values)
+                    self.assertEqual([getattr(raised, told) for told in arguments.split()], values)
+                    str(raised)
 
     def test_errors(self):
         errors = importlib.import_module("pointorstrip.errors")

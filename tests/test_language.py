@@ -10,7 +10,7 @@ import unittest
 
 PACKAGE = pathlib.Path(__file__).resolve().parent.parent / "pointorstrip"
 
-LIBRARY = {"math": {"gcd"}}
+LIBRARY = {"math": {"gcd", "lcm"}, "itertools": {"combinations"}}
 BUILTINS = {
     "len", "range", "enumerate", "zip", "min", "max", "sum", "abs", "sorted", "reversed", "int",
     "str", "bool", "list", "tuple", "dict", "set", "isinstance", "any", "all", "divmod", "super",
@@ -19,6 +19,7 @@ BUILTINS = {
 METHODS = {
     "append", "clear", "copy", "count", "extend", "get", "index", "insert", "items", "keys", "pop",
     "remove", "reverse", "setdefault", "update", "values", "bit_length",
+    "split", "join", "isascii", "isdigit",
 }
 UNUSED = {
     "mro", "elements", "open", "input", "law", "version_info", "with_traceback", "add_note",
@@ -26,8 +27,13 @@ UNUSED = {
     "sys", "type", "vars", "iter", "next", "map",
 }
 DOUBLE = {"__init__", "__eq__", "__bool__"}
-AT_ONCE = {"range", "zip", "enumerate", "reversed"}
-TAKERS = {"list", "tuple", "dict", "sorted", "sum", "any", "all", "enumerate", "zip", "min", "max"}
+AT_ONCE = {"range", "zip", "enumerate", "reversed", "combinations"}
+TAKERS = {
+    "list", "tuple", "dict", "sorted", "sum", "any", "all", "enumerate", "zip", "min", "max",
+    "combinations",
+}
+# What the interface calls a method of one class and an attribute of others.
+BOTH = {"back", "line", "many", "row", "times"}
 STATEMENTS = (
     ast.Assign, ast.If, ast.While, ast.For, ast.Return, ast.Break, ast.Continue, ast.Pass,
     ast.Raise, ast.Expr, ast.FunctionDef, ast.ClassDef, ast.ImportFrom,
@@ -52,6 +58,15 @@ def is_docstring(tree, node):
             if parent.body and parent.body[0] is node and isinstance(node, ast.Expr):
                 return isinstance(node.value, ast.Constant)
     return False
+
+
+def is_plain(node):
+    """Whether a value at module level is a constant, a sum, product and the like, or a tuple."""
+    if isinstance(node, ast.Tuple):
+        return all(is_plain(part) for part in node.elts)
+    if isinstance(node, ast.BinOp):
+        return is_plain(node.left) and is_plain(node.right)
+    return isinstance(node, ast.Constant)
 
 
 def bound_names(function):
@@ -164,7 +179,7 @@ class LanguageTest(unittest.TestCase):
             for node in tree.body:
                 if isinstance(node, ast.Assign):
                     self.assertEqual(len(node.targets), 1)
-                    self.assertIsInstance(node.value, ast.Constant)
+                    self.assertTrue(is_plain(node.value), (path, node.lineno))
                     names.append(node.targets[0].id)
                 elif isinstance(node, (ast.FunctionDef, ast.ClassDef)):
                     names.append(node.name)
@@ -216,7 +231,10 @@ class LanguageTest(unittest.TestCase):
                 else:
                     self.assertIn(node.func.attr, own | METHODS, where)
                 for told in node.keywords:
-                    self.assertEqual(told.arg, "default", where)
+                    if told.arg == "start":
+                        self.assertEqual(node.func.id, "enumerate", where)
+                    else:
+                        self.assertEqual(told.arg, "default", where)
 
     def test_what_is_iterated_at_once(self):
         for path, tree in trees():
@@ -239,8 +257,11 @@ class LanguageTest(unittest.TestCase):
     def test_classes(self):
         attributes = set()
         methods = set()
+        classes = set()
         for path, tree in trees():
             for made in [node for node in tree.body if isinstance(node, ast.ClassDef)]:
+                own = set()
+                classes.add(made.name)
                 for node in made.body:
                     if not is_docstring(tree, node):
                         self.assertIsInstance(node, ast.FunctionDef)
@@ -249,8 +270,15 @@ class LanguageTest(unittest.TestCase):
                 for node in ast.walk(made):
                     if isinstance(node, ast.Attribute) and isinstance(node.ctx, ast.Store):
                         self.assertEqual(node.value.id, "self")
-                        attributes.add(node.attr)
-        self.assertEqual(attributes & methods, set())
+                        own.add(node.attr)
+                here = {node.name for node in made.body if isinstance(node, ast.FunctionDef)}
+                self.assertEqual(own & here, set(), made.name)
+                attributes |= own
+        self.assertEqual(attributes & methods, BOTH)
+        for path, tree in trees():
+            for node in ast.walk(tree):
+                if isinstance(node, ast.Attribute) and isinstance(node.value, ast.Name):
+                    self.assertNotIn(node.value.id, classes, (path, node.lineno))
         for kind in (str, int, list, dict, set, bytes, tuple):
             self.assertEqual((attributes | methods - DOUBLE) & set(dir(kind)) - {"index"}, set())
 

@@ -1,9 +1,10 @@
 """Turning and stretching the plane ([15])."""
 
 import unittest
+from math import gcd
 
 from pointorstrip.errors import BadNumber
-from pointorstrip.moving import Turn, scaled
+from pointorstrip.moving import Turn, inverse, scaled
 from pointorstrip.regions import Region
 from trying import check_equality, generator, points_of, some_rows, some_turn
 
@@ -102,6 +103,16 @@ class ScaledTest(unittest.TestCase):
             with self.assertRaises(BadNumber) as caught:
                 scaled(Region([(1, 1, 1)]), times)
             self.assertIs(caught.exception.value, times)
+
+
+class InverseTest(unittest.TestCase):
+    def test_all_small_ones(self):
+        for modulus in range(1, 30):
+            for number in range(-40, 41):
+                if gcd(number, modulus) == 1:
+                    found = inverse(number, modulus)
+                    self.assertTrue(0 <= found < modulus)
+                    self.assertEqual((found * number - 1) % modulus, 0)
 
 
 if __name__ == "__main__":

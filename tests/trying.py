@@ -5,6 +5,7 @@ import random
 from pointorstrip.moving import Turn
 from pointorstrip.papers import Empty, Thin
 from pointorstrip.regions import Region
+from pointorstrip.rounded import Line
 
 
 def generator(seed):
@@ -33,6 +34,16 @@ def some_rows(chance, most_rows=4):
         rows.extend([(a, b, c), (-a, -b, chance.randint(0, 2) - c)])
     chance.shuffle(rows)
     return rows
+
+
+def some_lines(chance):
+    """Two lines that are much alike, or have little to do with one another."""
+    one = Line(chance.randint(-9, 9), chance.randint(-20, 20), chance.randint(1, 9))
+    if chance.random() < 0.6:
+        times = chance.randint(1, 3)
+        a = one.a * times + chance.choice([0, 0, 0, 1, -1])
+        return one, Line(a, one.b * times + chance.randint(-1, times), one.m * times)
+    return one, Line(chance.randint(-9, 9), chance.randint(-20, 20), chance.randint(1, 9))
 
 
 def some_turn(chance, size):
