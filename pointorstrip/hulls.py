@@ -70,17 +70,17 @@ def sides(corners):
     return rows
 
 
-def turns_left(start, middle, end):
-    """Whether the way from start over the middle to the end turns left there."""
-    across = (middle[0] - start[0]) * (end[1] - middle[1])
-    return across > (middle[1] - start[1]) * (end[0] - middle[0])
+def across(start, end, point):
+    """Twice the area of a triangle, above 0 if it goes round to the left."""
+    left = (end[0] - start[0]) * (point[1] - start[1])
+    return left - (end[1] - start[1]) * (point[0] - start[0])
 
 
 def under_chain(points):
     """The corners of the hull of ascending points on its way from the first to the last one."""
     chain = []
     for point in points:
-        while len(chain) > 1 and not turns_left(chain[-2], chain[-1], point):
+        while len(chain) > 1 and across(chain[-2], chain[-1], point) <= 0:
             chain.pop()
         chain.append(point)
     return chain

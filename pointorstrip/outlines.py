@@ -87,6 +87,24 @@ def tight_at(chain, x):
     return found
 
 
+def stretches(uppers, lowers, first, last):
+    """The whole x from first to last, not above it, in order as tuples (start, end, upper, lower).
+
+    Each has the lines that are tightest from its start to its end. There must be some of both.
+    """
+    starts = [first]
+    for _, start in uppers[1:] + lowers[1:]:
+        x = ceil_of(start)
+        if first < x <= last:
+            starts.append(x)
+    starts = sorted(set(starts))
+    ends = [x - 1 for x in starts[1:]] + [last]
+    return [
+        (start, end, tight_at(uppers, (start, 1)), tight_at(lowers, (start, 1)))
+        for start, end in zip(starts, ends)
+    ]
+
+
 class Outline:
     """What rows of a region leave of the plane.
 

@@ -4,6 +4,7 @@ from itertools import combinations
 
 from pointorstrip.errors import BadNumber, TooLarge
 from pointorstrip.figures import is_pair
+from pointorstrip.hulls import across
 from pointorstrip.regions import is_line_row
 
 MOST_POINTS = 12
@@ -115,12 +116,6 @@ def ways_apart(points, others):
         for p, q in row:
             ways = ways + [(q - s, r - p) for r, s in row]
     return ways
-
-
-def across(start, end, point):
-    """Twice the area of a triangle, above 0 if it goes round to the left."""
-    left = (end[0] - start[0]) * (point[1] - start[1])
-    return left - (end[1] - start[1]) * (point[0] - start[0])
 
 
 def meeting_of(points, others):

@@ -53,6 +53,34 @@ FUNCTIONS = {
         "closest": "one other turns",
         "width": "writes reads turns",
     },
+    "rests": {
+        "least_rest": "rests",
+        "greatest_rest": "rests",
+        "count_rests": "rests low high",
+        "first_rest": "rests low high",
+        "gaps": "rests",
+    },
+    "ranks": {
+        "rank": "region x y",
+        "point_at": "region number",
+        "next_point": "region x y",
+        "fair_parts": "region parts",
+        "columns_with": "region many",
+    },
+    "covered": {"covered": "region low high"},
+    "fractions": {
+        "simplest": "low high",
+        "neighbours": "fraction most",
+        "parts_of": "fraction",
+        "of_parts": "parts",
+    },
+    "triangles": {"cut": "corners", "as_sum": "corners times point"},
+    "growth": {"growth": "corners", "by_counts": "once twice"},
+    "schedules": {
+        "meet": "one other",
+        "are_apart": "one other shift",
+        "arrange": "kinds",
+    },
 }
 
 CLASSES = {
@@ -137,6 +165,28 @@ CLASSES = {
         "Access": ("times more", {"cell": "turn"}),
         "Width": ("number told", {"shows": "writes reads turns"}),
     },
+    "rests": {
+        "Rests": ("n b m many", {"at": "i", "turned": ""}),
+        "LeastRest": ("value i against", {"shows": "rests"}),
+    },
+    "covered": {
+        "Covered": ("pieces", {"shows": "region low high"}),
+        "Gap": ("x", {"shows": "region low high"}),
+        "Piece": ("first last below above paper", {}),
+    },
+    "fractions": {
+        "Simplest": ("p q against", {"shows": "low high"}),
+        "Neighbours": ("low high", {"shows": "fraction most"}),
+    },
+    "triangles": {"Cut": ("triangles", {"shows": "corners"})},
+    "growth": {
+        "Growth": ("twice around", {"whole": "times", "within": "times", "on_border": "times"}),
+    },
+    "schedules": {
+        "Deed": ("period start length", {"runs": "time"}),
+        "Apart": ("paper", {"shows": "one other"}),
+        "Clash": ("time turns ahead", {"shows": "one other"}),
+    },
 }
 
 # The errors that stand in other files than errors.py.
@@ -155,6 +205,8 @@ WITH_TRUTH = {
     "formats": "Back Lost",
     "parting": "Parted Meeting",
     "formulas": "Always Fails",
+    "covered": "Covered Gap",
+    "schedules": "Apart Clash",
 }
 
 
