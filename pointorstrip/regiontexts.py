@@ -44,10 +44,19 @@ class Reader:
 
     def fail(self):
         """BadText for the next word, or for the end if there is none."""
-        if self.place < len(self.words):
-            _, line, column = self.words[self.place]
+        self.fail_at(self.place)
+
+    def fail_at(self, place):
+        """BadText for the word with this number, or for the end if there is none."""
+        if place < len(self.words):
+            _, line, column = self.words[place]
             raise BadText(line, column)
         raise BadText(self.line, self.column)
+
+    def finish(self):
+        """BadText if there is a word left."""
+        if self.word() is not None:
+            self.fail()
 
 
 def line_words(line, number):
@@ -59,6 +68,12 @@ def line_words(line, number):
             words.append((word, number, column))
         column = column + len(word) + 1
     return words
+
+
+def line_reader(words):
+    """The Reader of the words of a line, the end being the place behind the last one."""
+    word, line, column = words[-1]
+    return Reader(words, line, column + len(word))
 
 
 def is_figures(word):
@@ -97,17 +112,24 @@ def read_side(reader):
             return sums
 
 
-def read_row(reader):
-    """Reads a row, up to the end; the list of the line rows that it tells."""
+def read_relation(reader, relations):
+    """Reads a side, one of the relations, a side.
+
+    A tuple of the relation, and a, b, c with all x and y on its left, the rest on its right.
+    """
     left = read_side(reader)
     relation = reader.word()
-    if relation not in RELATIONS:
+    if relation not in relations:
         reader.fail()
     reader.step()
     right = read_side(reader)
-    if reader.word() is not None:
-        reader.fail()
-    a, b, c = left[0] - right[0], left[1] - right[1], right[2] - left[2]
+    return (relation, left[0] - right[0], left[1] - right[1], right[2] - left[2])
+
+
+def read_row(reader):
+    """Reads a row, up to the end; the list of the line rows that it tells."""
+    relation, a, b, c = read_relation(reader, RELATIONS)
+    reader.finish()
     rows = []
     if relation != ">=":
         rows.append((a, b, c))
@@ -124,8 +146,7 @@ def read_region(text):
     for number, line in enumerate(text.split("\n"), start=1):
         words = line_words(line, number)
         if words:
-            word, _, column = words[-1]
-            rows = rows + read_row(Reader(words, number, column + len(word)))
+            rows = rows + read_row(line_reader(words))
     return Region(rows)
 
 

@@ -81,6 +81,16 @@ FUNCTIONS = {
         "are_apart": "one other shift",
         "arrange": "kinds",
     },
+    "conditions": {"read_condition": "text", "write_condition": "told"},
+    "scripts": {"run_script": "text"},
+    "steppers": {
+        "growths": "line low many",
+        "runs_of": "line low many",
+        "slowed": "line",
+    },
+    "calendars": {"same_weekdays": "calendar week"},
+    "codetexts": {"read_program": "text", "write_program": "program"},
+    "composing": {"compose": "one other", "nested": "lines"},
 }
 
 CLASSES = {
@@ -187,13 +197,41 @@ CLASSES = {
         "Apart": ("paper", {"shows": "one other"}),
         "Clash": ("time turns ahead", {"shows": "one other"}),
     },
+    "books": {
+        "Book": ("", {
+            "begin": "name rows", "put": "name row", "drop": "name number", "undo": "", "names": "",
+            "region": "name", "told": "name", "judged": "name", "common": "names",
+        }),
+    },
+    "steppers": {
+        "Stepper": (
+            "line place",
+            {"state": "", "step": "", "back": "", "skip": "many", "skip_to": "number"},
+        ),
+    },
+    "calendars": {
+        "Calendar": ("lengths spread", {
+            "short": "", "is_long": "year", "days_in": "year month",
+            "is_date": "year month day", "number": "year month day", "date": "number",
+            "weekday": "number week", "year_line": "", "fast_year": "top", "month_line": "",
+            "fast_month": "",
+        }),
+    },
+    "composing": {
+        "Composed": ("line", {"shows": "one other"}),
+        "Broken": ("x y", {"shows": "one other"}),
+    },
 }
+
+# The classes without an equality of their own.
+WITHOUT_EQUALITY = ("BadRegion", "BadNumber", "TooLarge", "Book")
 
 # The errors that stand in other files than errors.py.
 ERRORS = {
     "words": {"BadStep": "number"},
     "regiontexts": {"BadText": "line column"},
     "formulas": {"BadFormula": "part"},
+    "books": {"BadName": "name"},
 }
 
 # The evidence that tells its own truth.
@@ -207,6 +245,7 @@ WITH_TRUTH = {
     "formulas": "Always Fails",
     "covered": "Covered Gap",
     "schedules": "Apart Clash",
+    "composing": "Composed Broken",
 }
 
 
@@ -234,7 +273,7 @@ class InterfaceTest(unittest.TestCase):
                 for method, more in methods.items():
                     self.assertIn(method, vars(made))
                     self.check_arguments(vars(made)[method], ("self " + more).strip())
-                if file != "errors":
+                if name not in WITHOUT_EQUALITY:
                     self.assertIn("__eq__", vars(made))
 
     def test_truth(self):

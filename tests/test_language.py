@@ -19,7 +19,7 @@ BUILTINS = {
 METHODS = {
     "append", "clear", "copy", "count", "extend", "get", "index", "insert", "items", "keys", "pop",
     "remove", "reverse", "setdefault", "update", "values", "bit_length",
-    "split", "join", "isascii", "isdigit",
+    "split", "join", "isascii", "isdigit", "isalpha", "islower",
 }
 UNUSED = {
     "mro", "elements", "open", "input", "law", "version_info", "with_traceback", "add_note",
@@ -32,15 +32,16 @@ TAKERS = {
     "list", "tuple", "dict", "sorted", "sum", "any", "all", "enumerate", "zip", "min", "max",
     "combinations",
 }
+OWN_ERRORS = {"PlaneError", "BadRegion", "BadNumber", "TooLarge"}
 # What the interface calls a method of one class and an attribute of others.
-BOTH = {"back", "line", "many", "row", "times"}
+BOTH = {"back", "line", "many", "number", "region", "row", "times", "told"}
 STATEMENTS = (
     ast.Assign, ast.If, ast.While, ast.For, ast.Return, ast.Break, ast.Continue, ast.Pass,
-    ast.Raise, ast.Expr, ast.FunctionDef, ast.ClassDef, ast.ImportFrom,
+    ast.Raise, ast.Expr, ast.FunctionDef, ast.ClassDef, ast.ImportFrom, ast.Try,
 )
 BARRED = (
     ast.Lambda, ast.GeneratorExp, ast.SetComp, ast.Set, ast.NamedExpr, ast.Starred, ast.Await,
-    ast.Yield, ast.YieldFrom, ast.JoinedStr, ast.Div, ast.MatMult, ast.AnnAssign, ast.AugAssign,
+    ast.Yield, ast.YieldFrom, ast.Div, ast.MatMult, ast.AnnAssign, ast.AugAssign,
 )
 
 
@@ -60,12 +61,20 @@ def is_docstring(tree, node):
     return False
 
 
-def is_plain(node):
-    """Whether a value at module level is a constant, a sum, product and the like, or a tuple."""
+def is_plain(node, functions):
+    """Whether a value at module level is a constant, a sum, product and the like, or a tuple.
+
+    It may be a dict of such or of functions above it, too.
+    """
+    if isinstance(node, ast.Dict):
+        parts = node.keys + [part for part in node.values if not isinstance(part, ast.Name)]
+        names = {part.id for part in node.values if isinstance(part, ast.Name)}
+        return names <= set(functions) and all(
+            not isinstance(part, ast.Dict) and is_plain(part, []) for part in parts)
     if isinstance(node, ast.Tuple):
-        return all(is_plain(part) for part in node.elts)
+        return all(is_plain(part, []) for part in node.elts)
     if isinstance(node, ast.BinOp):
-        return is_plain(node.left) and is_plain(node.right)
+        return is_plain(node.left, []) and is_plain(node.right, [])
     return isinstance(node, ast.Constant)
 
 
@@ -106,6 +115,15 @@ class LanguageTest(unittest.TestCase):
                     self.assertTrue(call or is_docstring(tree, node), (path, node.lineno))
                 if isinstance(node, BARRED):
                     self.fail((path, ast.dump(node)))
+                if isinstance(node, ast.Try):
+                    self.assertFalse(node.finalbody or node.orelse, (path, node.lineno))
+                    for handler in node.handlers:
+                        self.assertIn(handler.type.id, OWN_ERRORS, (path, node.lineno))
+                        self.assertIsNone(handler.name)
+                if isinstance(node, ast.FormattedValue):
+                    self.assertEqual(node.conversion, -1)
+                    self.assertIsNone(node.format_spec)
+                    self.assertIsInstance(node.value, (ast.Name, ast.Attribute), (path, node.lineno))
                 if isinstance(node, ast.Constant):
                     self.assertIn(type(node.value), (int, str, bool, type(None)), path)
                 if isinstance(node, ast.BinOp) and isinstance(node.op, ast.Pow):
@@ -179,7 +197,7 @@ class LanguageTest(unittest.TestCase):
             for node in tree.body:
                 if isinstance(node, ast.Assign):
                     self.assertEqual(len(node.targets), 1)
-                    self.assertTrue(is_plain(node.value), (path, node.lineno))
+                    self.assertTrue(is_plain(node.value, names), (path, node.lineno))
                     names.append(node.targets[0].id)
                 elif isinstance(node, (ast.FunctionDef, ast.ClassDef)):
                     names.append(node.name)
@@ -222,12 +240,16 @@ class LanguageTest(unittest.TestCase):
                if isinstance(node, (ast.FunctionDef, ast.ClassDef))}
         library = {name for names in LIBRARY.values() for name in names}
         for path, tree in trees():
+            # Functions that are taken from a table get a name first.
+            taken = {node.targets[0].id for node in ast.walk(tree) if isinstance(node, ast.Assign)
+                     and isinstance(node.value, ast.Subscript)
+                     and isinstance(node.targets[0], ast.Name)}
             for node in ast.walk(tree):
                 if not isinstance(node, ast.Call):
                     continue
                 where = (path, node.lineno)
                 if isinstance(node.func, ast.Name):
-                    self.assertIn(node.func.id, own | BUILTINS | library, where)
+                    self.assertIn(node.func.id, own | BUILTINS | library | taken, where)
                 else:
                     self.assertIn(node.func.attr, own | METHODS, where)
                 for told in node.keywords:
