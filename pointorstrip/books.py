@@ -129,6 +129,6 @@ class Book:
 
 def is_name(value):
     """Whether this is a name: 1 to 8 small letters."""
-    if not isinstance(value, str) or len(value) < 1 or len(value) > MOST_LETTERS:
+    if not isinstance(value, str) or len(value) > MOST_LETTERS:
         return False
     return value.isascii() and value.isalpha() and value.islower()

@@ -70,8 +70,7 @@ def ends_asked(one, other):
     box = Region([(-1, 0, 0), (1, 0, one.m - 1), (0, -1, 0), (0, 1, other.m - 1)])
     rows = lattice.pulled(box).rows
     # What is asked is less by a2 times what the one leaves and m1 times what the other one does.
-    u = other.a * lattice.one[0] + one.m * lattice.one[1]
-    v = other.a * lattice.other[0] + one.m * lattice.other[1]
+    u, v = [other.a * r + one.m * s for r, s in (lattice.one, lattice.other)]
     ends = []
     for sign in (1, -1):
         found = lowest(rows, sign * u, sign * v)

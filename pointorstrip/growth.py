@@ -29,7 +29,6 @@ class Growth:
 
     def within(self, times):
         """How many of them are off its border; times from 1 on."""
-        check_from(1, times)
         return self.whole(times) - self.on_border(times)
 
     def on_border(self, times):
@@ -56,6 +55,6 @@ def by_counts(once, twice):
     # Both sums solved for twice the area and the points around.
     area = twice - 2 * once + 1
     around = 4 * once - twice - 3
-    if area < 1 or not fits_around(area, around):
+    if not fits_around(area, around):
         return None
     return Growth(area, around)

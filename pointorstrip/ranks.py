@@ -43,9 +43,9 @@ def next_point(region, x, y):
     check_numbers([x, y])
     if many == 0:
         return None
-    low, high = column(region.rows, x)
+    low, _ = column(region.rows, x)
     above = max(low[0], y + 1)
-    if above <= high[0] and region.has(x, above):
+    if region.has(x, above):
         return (x, above)
     found = lowest(list(region.rows) + [(-1, 0, -x - 1)], 1, 0)
     if not found:
@@ -117,22 +117,16 @@ def columns_ahead(stretch, number):
     low, high = 0, stretch[1] - stretch[0] + 1
     # So much is the number above what is ahead of low, and below what is ahead of high.
     over, under = number + 1, points_in(stretch, high) - number
-    rounds = 0
-    moved = 0
+    by_half = False
     while high - low > 1:
-        rounds = rounds + 1
+        # By proportion it ends far sooner as a rule; halving in between bounds it.
         middle = (low + high) // 2
-        # By proportion this ends far sooner, as long as halving now and then bounds it; an end
-        # that stays for a second time counts half, so that it comes nearer, too.
-        if rounds % 3:
+        if not by_half:
             middle = min(max((low * under + high * over) // (over + under), low + 1), high - 1)
+        by_half = not by_half
         ahead = points_in(stretch, middle)
         if ahead <= number:
             low, over = middle, number - ahead + 1
-            under = under // 2 + 1 if moved > 0 else under
-            moved = 1
         else:
             high, under = middle, ahead - number
-            over = over // 2 + 1 if moved < 0 else over
-            moved = -1
     return low

@@ -135,8 +135,6 @@ def arrange(kinds):
     None if there are none.
     """
     check_kinds(kinds)
-    if not kinds:
-        return ()
     starts = [list(range(period)) for period, _ in kinds[1:]]
     return first_starts(list(kinds), [[0]] + starts)
 

@@ -32,11 +32,9 @@ class Cut:
             if not is_smallest(triangle) or not lies_in(triangle, rows):
                 return False
             for way in ways_of(triangle):
-                if way in ways:
-                    return False
                 ways[way] = True
-        # The ways whose way back is there cancel out. The others are steps of the border, of which
-        # only all together go round, once: so the triangles go round all points within once, too.
+        # If there is one beside each way but those on the border, all of the hull is in some; and
+        # as they have its area in all, nothing is in two.
         for start, end in list(ways):
             if (end, start) not in ways and not on_one_side(start, end, rows):
                 return False

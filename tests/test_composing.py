@@ -113,6 +113,10 @@ class ComposeTest(unittest.TestCase):
         self.assertIs(Broken(found.x + 8 * 10 ** 40, found.y - 8 * 10 ** 30).shows(one, other), True)
         self.assertIs(Broken(found.y, found.x).shows(one, other), False)
         self.assertIs(found.shows(other, one), False)
+        self.assertIs(Composed(None).shows(one, other), False)
+        # As far apart as can be without breaking it.
+        for x in range(-9, 20):
+            self.assertIs(Broken(8 * x, 8 * x + 7).shows(Line(1, 0, 8), Line(1, 0, 1)), False)
         for line in (Line(8, b, 8) for b in range(-10, 10)):
             self.assertIs(Composed(line).shows(one, other), False)
 

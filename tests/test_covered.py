@@ -208,10 +208,48 @@ class CoveredTest(unittest.TestCase):
         halves = [Piece(0, 2, None, None, None), Piece(3, 5, None, None, None)]
         self.assertIs(Covered(halves).shows(Region([]), 0, 5), True)
         self.assertIs(Covered(halves[::-1]).shows(Region([]), 0, 5), False)
+        nothing = Piece(0, -1, None, None, None)
+        self.assertIs(Covered([nothing] + halves).shows(Region([]), 0, 5), False)
+        self.assertIs(Covered([nothing]).shows(Region([]), 0, -1), False)
+        for low, high in ((0, -1), (0, -2), (0, 1), (0, 3)):
+            self.assertIs(Covered(halves[:1]).shows(Region([]), low, high), False)
+        self.assertIs(Covered(halves[:1]).shows(Region([]), 0, 2), True)
+
+    def check_piece(self, rows, piece, weights, told):
+        """The piece's paper shows for its rows, and the piece itself as told."""
+        paper = Empty(weights)
+        a, b, c = rows[piece[2]]
+        p, q, r = rows[piece[3]]
+        self.assertTrue(refutes(paper, [
+            (-1, 0, -piece[0]), (1, 0, piece[1]), (-a, -b, -c - b - 1), (-p, -q, -r - 1)]))
+        self.assertIs(Covered([Piece(*piece, paper)]).shows(Region(rows), piece[0], piece[1]), told)
+
+    def test_shows_asks_for_the_right_side(self):
+        rows = [(1, 0, 9), (0, 1, 7), (0, -1, 0)]
+        self.check_piece(rows, (0, 5, 2, 1), [0, 0, 1, 1], True)
+        # Rows of the other side, without y, or counted from behind.
+        self.check_piece(rows, (0, 5, 1, 2), [0, 0, 1, 1], False)
+        self.check_piece(rows, (0, 5, 0, 1), [0, 1, 1, 0], False)
+        self.check_piece(rows, (0, 5, 2, 0), [0, 1, 0, 1], False)
+        self.check_piece(rows, (0, 5, -1, 1), [0, 0, 1, 1], False)
+        self.check_piece(rows, (0, 5, 2, -2), [0, 0, 1, 1], False)
+
+    def test_shows_asks_for_both_ends(self):
+        # Row 2 is tightest from x = 5 on, row 3 up to x = 5.
+        rows = [(0, 1, 7), (0, -1, 0), (1, 1, 12), (-1, 1, 2)]
+        self.check_piece(rows, (5, 8, 1, 2), [0, 1, 1, 1], True)
+        self.check_piece(rows, (4, 8, 1, 2), [0, 1, 1, 1], False)
+        self.check_piece(rows, (2, 5, 1, 3), [1, 0, 1, 1], True)
+        self.check_piece(rows, (2, 6, 1, 3), [1, 0, 1, 1], False)
+        turned = [(a, -b, c) for a, b, c in rows]
+        self.check_piece(turned, (5, 8, 2, 1), [0, 1, 1, 1], True)
+        self.check_piece(turned, (4, 8, 2, 1), [0, 1, 1, 1], False)
+        self.check_piece(turned, (2, 5, 3, 1), [1, 0, 1, 1], True)
+        self.check_piece(turned, (2, 6, 3, 1), [1, 0, 1, 1], False)
 
     def test_shows_of_a_gap(self):
         narrow = Region([(-3, 6, 2), (1, -2, 0), (1, 0, 9)])
-        for x in range(-4, 14):
+        for x in range(-7, 17):
             self.assertIs(Gap(x).shows(narrow, -3, 12), -3 <= x <= 12 and (x % 2 == 1 or x > 9))
         self.assertIs(Gap(5).shows(narrow, 6, 4), False)
         self.assertIs(Gap(5).shows(Region([]), 0, 9), False)

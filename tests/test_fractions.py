@@ -182,6 +182,8 @@ class NeighboursTest(unittest.TestCase):
             self.assertIs(Neighbours(low, high).shows(fraction, most), False, (low, high))
         self.assertIs(Neighbours((1, 3), (1, 2)).shows(fraction, 5), False)
         self.assertIs(Neighbours((1, 3), (1, 2)).shows(fraction, 2), False)
+        self.assertIs(Neighbours((0, 1), (1, 2)).shows((1, 5), 1), False)
+        self.assertIs(Neighbours((1, 2), (1, 1)).shows((4, 5), 1), False)
         self.assertIs(Neighbours((1, 3), (1, 2)).shows((1, 2), most), False)
         self.assertIs(Neighbours((1, 3), (1, 2)).shows((3, 5), most), False)
         self.assertIs(Neighbours((2, 5), (2, 5)).shows((4, 10), 5), True)

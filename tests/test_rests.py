@@ -54,7 +54,7 @@ class RestsTest(unittest.TestCase):
         for n, b, m, many, value in (
             (None, "b", 0, 0, None), (True, 1, 0, 0, True), (1, "b", 0, 0, "b"), (1, 2.0, 3, 4, 2.0),
             (1, 2, None, 0, None), (1, 2, False, 0, False), (1, 2, 0, None, None), (1, 2, -1, True, True),
-            (1, 2, 0, 0, 0), (1, 2, -7, 5, -7), (1, 2, 3, 0, 0), (1, 2, 3, -4, -4),
+            (1, 2, 0, 0, 0), (1, 2, 0, 5, 0), (1, 2, -7, 5, -7), (1, 2, 3, 0, 0), (1, 2, 3, -4, -4),
         ):
             with self.assertRaises(BadNumber) as caught:
                 Rests(n, b, m, many)
@@ -135,6 +135,8 @@ class LeastRestTest(unittest.TestCase):
                 self.assertIs(found.shows(Rests(rests.n, rests.b, rests.m, i)), False)
         self.assertIs(LeastRest(0, 0, Empty([0, 0, 1, 1])).shows(Rests(3, 0, 5, 2)), True)
         self.assertIs(LeastRest(0, 0, Thin(1, 0)).shows(Rests(3, 0, 5, 2)), False)
+        for i in (-5, -1, 0, 1, 2, 7):
+            self.assertIs(LeastRest(0, i, Empty([0, 0, 1, 1])).shows(Rests(0, 0, 5, 2)), i in (0, 1))
         # One that comes again later is as good.
         self.assertIs(LeastRest(0, 5, Empty([0, 0, 1, 1])).shows(Rests(3, 0, 5, 6)), True)
         self.assertIs(LeastRest(0, 5, Empty([0, 0, 1, 1])).shows(Rests(3, 0, 5, 5)), False)

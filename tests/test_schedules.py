@@ -53,7 +53,7 @@ class DeedTest(unittest.TestCase):
     def test_errors(self):
         for period, start, length, value in (
             (None, "s", 0, None), (0, None, 0, None), (0, 5, None, None), (True, 5, 1, True),
-            (5, False, 1, False), (5, 1, True, True), (5, 1.0, 9, 1.0), (0, 5, 0, 0), (-3, 5, 9, -3),
+            (5, False, 1, False), (5, 1, True, True), (5, 1.0, 9, 1.0), (0, 5, 0, 0), (0, 5, 1, 0), (-3, 5, 9, -3),
             (5, 0, 0, 0), (5, 0, 6, 6), (5, 0, -1, -1), (1, 0, 2, 2),
         ):
             with self.assertRaises(BadNumber) as caught:

@@ -110,9 +110,10 @@ class AnswersTest(ScriptTest):
                    "1 ways, none last", "1 ways, none last")
 
     def test_divide(self):
-        self.check("divide 32 7\ndivide 8 8\ndivide 8 1\ndivide 32 3\ndivide 16 28",
+        self.check("divide 32 7\ndivide 8 8\ndivide 8 1\ndivide 32 3\ndivide 16 28\n"
+                   "divide 8 28",
                    "more 0 2 by 4908534053", "right 0 3 by 0", "right 0 0 by 0", "high 0 1 by 2863311531",
-                   "ahead 1 2 by 18725")
+                   "ahead 1 2 by 18725", "ahead 2 0 by 37")
 
     def test_as_the_functions_tell(self):
         chance = generator(571)

@@ -159,6 +159,21 @@ class CutTest(unittest.TestCase):
         self.assertIs(Cut(one + other).shows(wide), False)
         self.assertIs(Cut(one[:1] + other[:1]).shows(square), False)
 
+    def test_shows_of_what_lies_outside(self):
+        # Two triangles beside the hull, all between lines of its sides, with its area in all.
+        corners = ((-1, 0), (0, -2), (1, -3), (0, 0))
+        beside = (((0, -2), (-1, 0), (-2, 0)), ((1, -3), (0, -2), (2, -6)))
+        triangles = [triangle for tip in beside for triangle in cut(tip).triangles]
+        self.assertEqual(len(triangles), area(corners))
+        self.assertIs(Cut(triangles).shows(corners), False)
+        self.assertIs(cut(corners).shows(corners), True)
+
+    def test_shows_of_no_corners(self):
+        triangles = cut(((0, 0), (2, 0), (0, 1))).triangles
+        self.assertIs(Cut(triangles).shows(((0, 0), (2, 0), (0, 1))), True)
+        self.assertIs(Cut(triangles).shows(((0, 0), (1, 0), (2, 0), (0, 1))), False)
+        self.assertIs(Cut(triangles).shows(((0, 1), (2, 0), (0, 0))), False)
+
     def check_errors(self, function, *more):
         for corners in NONE:
             with self.assertRaises(BadNumber) as caught:
